@@ -1,0 +1,67 @@
+"""The examples of the interface, as they stand there."""
+
+import doctest
+import unittest
+
+EXAMPLES = '''
+>>> from likestreets.rows import fits, length_of, less, meet, plus, times, worth
+>>> [plus([1, -1], (0, 2)), less((1, -1), [0, 2]), times([1, -1], -3), worth([1, 2], [3, -1])]
+[(1, 1), (1, -3), (-3, 3), 1]
+>>> [fits([1, 0, -1], (2, -1, -1)), fits([1, 1], [2, -1]), meet([3, -2, 1], [1, -5, -1]), length_of([3, -2, 1])]
+[True, False, (1, -2, 0), 6]
+>>> from likestreets.tables import Table, arranged, is_change, pull, signed, widened, with_column
+>>> shelf = Table([1, 1, 1], [0, 1, 2])
+>>> [is_change(shelf, [1, -2, 1]), is_change(shelf, [1, 0, 1]), pull(shelf, [1, 0, -1]), shelf.columns, shelf]
+[True, False, -2, 3, Table((1, 1, 1), (0, 1, 2))]
+>>> [arranged(shelf, [2, 0, 1]).common, signed(shelf, 2).own, widened(shelf).common, with_column(shelf, 0, 4).own]
+[(2, 0, 1), (1, 1, -1), (0, 1, 2, 1, -1), (1, 1, 1, 0)]
+>>> from likestreets.bases import basis, divisor, is_basis, rank, spans, sums_in
+>>> [rank(shelf), is_basis(shelf, basis(shelf)), is_basis(shelf, [[1, -1, 0], (1, 1, -2)]), divisor([[1, 2, 3], [1, 0, 1]])]
+[2, True, False, 2]
+>>> [sums_in(shelf, [[1, -1, 0], [0, 1, -1]], [1, -2, 1]), spans(shelf, [[1, -1, 0], [1, 1, -2], [0, 3, -3]])]
+[[1, -1], True]
+>>> from likestreets.least import fitting, inner, is_least, least_changes
+>>> from likestreets.tables import Table
+>>> shelf = Table([1, 1, 1], [0, 1, 2])
+>>> [least_changes(shelf)[:3], is_least(shelf, [1, -2, 1]), inner(shelf, [1, -2, 1]), inner(shelf, [0, 1, -1])]
+[[(-1, 0, 1), (-1, 1, 0), (0, -1, 1)], False, (0, -1, 1), None]
+>>> [fitting(shelf, (2, -2, 0)), len(least_changes(Table([2, 3], [1, 1])))]
+[[(0, 0, 0), (1, -1, 0), (2, -2, 0)], 2]
+>>> from likestreets.parted import few_parts, is_parting
+>>> [is_parting(shelf, [2, -3, 1], [((1, -1, 0), 2), ([0, -1, 1], 1)]), is_parting(shelf, [1, -1, 0], [((1, 0, -1), 1), ((0, -1, 1), 1)]), few_parts(shelf, [2, -3, 1])]
+[True, False, 3]
+>>> few_parts(Table([1, 2, 3], [0, 0, 1]), [3, 3, -3])
+2
+>>> from likestreets.closed import is_closed_list, lacking, reduced, unclosed
+>>> some = [(1, -1, 0), (-1, 1, 0), (0, 1, -1), (0, -1, 1)]
+>>> [unclosed(shelf, some), lacking(shelf, some), is_closed_list(shelf, some + [[1, 0, -1], [-1, 0, 1]]), reduced(shelf, [[1, -2, 1], [1, -1, 0], [0, 0, 0]])]
+[(0, 2), (-1, 0, 1), True, [(1, -1, 0)]]
+>>> from likestreets.pulls import pulls, with_pull
+>>> from likestreets.tables import Table
+>>> shelf = Table((1, 1, 1), (0, 1, 2))
+>>> [pulls(shelf), with_pull(shelf, 1), pulls(Table((2, 3), (1, 0))), with_pull(shelf, 5)]
+[[-2, -1, 1, 2], [(-1, 1, 0), (0, -1, 1)], [-3, 3], []]
+>>> from likestreets.lots import inner_lot, is_lot, is_lot_parts, least_lots
+>>> [least_lots(shelf), inner_lot(shelf, [(1, 3), (-1, 3)]), is_lot(shelf, [(2, 1), (-1, 1)])]
+[[[(-2, 1), (1, 2)], [(-2, 1), (2, 1)], [(-1, 1), (1, 1)], [(-1, 2), (2, 1)]], [(-1, 1), (1, 1)], False]
+>>> is_lot_parts(shelf, [(1, 3), (-1, 1), (-2, 1)], [([(-1, 1), (1, 1)], 1), ([(1, 2), (-2, 1)], 1)])
+True
+>>> from likestreets.swaps import is_least_swap, is_swap, is_swap_within, things
+>>> [is_swap(shelf, [(1, 0, -1)]), is_least_swap(shelf, [(-1, 1, 0), (0, -1, 1), [1, 0, -1]]), is_least_swap(shelf, [(-1, 2, -1)]), things(shelf, [(1, 0, -1), (-1, 0, 1)])]
+[False, True, True, [(-2, 1), (2, 1)]]
+>>> is_swap_within(shelf, [(-1, 1, 0), (1, -1, 0), (-2, 2, 0), (2, -2, 0)], [(0, 0, 0), (0, 0, 0), (-1, 1, 0), (1, -1, 0)])
+True
+'''
+
+
+class TestExamples(unittest.TestCase):
+    def test_examples(self):
+        examples = doctest.DocTestParser().get_doctest(EXAMPLES, {}, "interface", None, None)
+        told = []
+        failed, tried = doctest.DocTestRunner(verbose=False).run(examples, out=told.append)
+        self.assertEqual(failed, 0, "".join(told))
+        self.assertEqual(tried, 31)
+
+
+if __name__ == "__main__":
+    unittest.main()
