@@ -7,6 +7,8 @@ import random
 import unittest
 
 from likestreets.errors import TooMany
+from likestreets.kinds import Kind
+from likestreets.streets import Street
 from likestreets.tables import Table
 
 GREAT = 10 ** 30 - 1
@@ -212,3 +214,81 @@ def plain_swaps_within(table, swap):
         if inside and any([any(row) for row in rows]) and list(rows) != [tuple(change) for change in swap]:
             found.append(list(rows))
     return found
+
+
+NO_PRICES = NO_LISTS + [
+    [], (), (0,), (0, [], []), [0, []], [], (0, None), (None, []), (True, []), (False, []), ("0", []), ([], 0), (0, 0),
+    (0, {}), (0, "ab"), (0, [1]), (0, [(1,)]), (0, [(1, 1, 1)]), (0, [[1, 1]]), (0, [(1, 1), [2, 1]]), (0, [(1, 0)]),
+    (0, [(1, -1)]), (0, [(True, 1)]), (0, [(1, True)]), (0, [(None, 1)]), (0, [(1, "1")]), (0, [(2, 1), (2, 1)]),
+    (0, [(2, 1), (1, 1)]), (0, ((1, 1), (3, 1), (2, 1))), (0, [(1, 1), (2, 1), (3, 1), (4, 1), (5, 1)]), ((0, []),),
+    (0, (1, 1)), (0, [()]), (0, [None]), ((0,), []), (0, [((1,), 1)]),
+]
+
+
+def plain_price(price, number):
+    """What a price costs, by the words of the document."""
+    slope, bends = price
+    return slope * number + sum([more * (number - place) for place, more in bends if place < number])
+
+
+def plain_box(bounds):
+    return list(itertools.product(*[range(low, high + 1) for low, high in bounds]))
+
+
+def plain_houses(table, kind):
+    """All house plans of a Kind, sorted."""
+    return [row for row in plain_box(kind.bounds()) if plain_worth(row, table.own) == kind.rest]
+
+
+def plain_house_price(kind, house):
+    return sum([plain_price(price, number) for price, number in zip(kind.prices(), house)])
+
+
+def plain_cost(street, layout):
+    return sum([
+        many * plain_house_price(kind, house) for kind, share in zip(street.kinds(), layout) for house, many in share
+    ])
+
+
+def plain_draw(street, layout):
+    return sum([many * plain_worth(house, street.table.common) for share in layout for house, many in share])
+
+
+def plain_layouts(street):
+    """All layouts of a small street, told."""
+    choices = []
+    for kind in street.kinds():
+        groups = itertools.combinations_with_replacement(plain_houses(street.table, kind), kind.many)
+        choices.append([sorted([(house, group.count(house)) for house in set(group)]) for group in groups])
+    return [list(layout) for layout in itertools.product(*choices)]
+
+
+def plain_plans(street):
+    return [layout for layout in plain_layouts(street) if plain_draw(street, layout) == street.stock]
+
+
+def houses_told(share):
+    """The house plans of a list of a layout, each as often as it is there."""
+    return [house for house, many in share for _ in range(many)]
+
+
+def some_price(source, low, high, size):
+    places = sorted(source.sample(range(low - 1, high + 1), min(source.randint(0, 4), high - low + 1)))
+    return (source.randint(-size, size), [(place, source.randint(1, size)) for place in places])
+
+
+def some_street(source, table, houses, width, size=9):
+    """A street of the table with as many kinds as numbers of houses are told, and a plan of it."""
+    kinds, layout = [], []
+    for many in houses:
+        bounds = []
+        for _ in range(table.columns):
+            low = source.randint(-width, width)
+            bounds.append((low, source.randint(low, width)))
+        rest = plain_worth([source.randint(low, high) for low, high in bounds], table.own)
+        prices = [some_price(source, low, high, size) for low, high in bounds]
+        kinds.append(Kind(many, rest, bounds, prices))
+        chosen = [source.choice(plain_houses(table, kinds[-1])) for _ in range(many)]
+        layout.append(sorted([(house, chosen.count(house)) for house in set(chosen)]))
+    street = Street(table, kinds, 0)
+    return street.with_stock(plain_draw(street, layout)), layout

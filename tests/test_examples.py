@@ -1,6 +1,7 @@
 """The examples of the interface, as they stand there."""
 
 import doctest
+import os
 import unittest
 
 EXAMPLES = '''
@@ -51,16 +52,50 @@ True
 [False, True, True, [(-2, 1), (2, 1)]]
 >>> is_swap_within(shelf, [(-1, 1, 0), (1, -1, 0), (-2, 2, 0), (2, -2, 0)], [(0, 0, 0), (0, 0, 0), (-1, 1, 0), (1, -1, 0)])
 True
+>>> from likestreets.reach import is_greatest_swap, reach
+>>> [reach(shelf), reach(Table((2, 3), (1, 0))), reach(Table((1, 1), (1, 1))), reach(Table((3,), (1,)))]
+[3, 2, 1, 0]
+>>> [is_greatest_swap(shelf, [(1, -1, 0), (-1, 0, 1), (0, 1, -1)]), is_greatest_swap(shelf, [(1, 0, -1), (-1, 0, 1)])]
+[True, False]
+>>> from likestreets.prices import is_price, plus_prices, price_at, slope_at
+>>> [price_at((1, [(2, 3)]), 4), slope_at((1, [(2, 3)]), 1), slope_at((1, [(2, 3)]), 2), is_price((0, [(2, 1), (2, 1)]))]
+[10, 1, 4, False]
+>>> plus_prices((1, [(2, 3)]), (-1, [(0, 1), (2, 1)]))
+(0, [(0, 1), (2, 4)])
+>>> from likestreets.kinds import Kind
+>>> shop = Kind(2, 1, [(0, 1), (0, 1), (0, 1)], [(0, []), (3, []), (1, [])])
+>>> [shop.columns, shop.with_many(10 ** 20).many, shop == shop.with_many(3).with_many(2), shop.prices()[1]]
+[3, 100000000000000000000, True, (3, [])]
+>>> from likestreets.streets import Street
+>>> from likestreets.tables import Table
+>>> street = Street(Table([1, 1, 1], [0, 1, 2]), [shop, shop.with_many(1)], 3)
+>>> [street.houses, street.reach, street.with_stock(4).stock, street == street.with_kind(1, shop)]
+[3, 3, 4, False]
+>>> from likestreets.plans import all_houses, apart, drawn, is_plan, layout_price
+>>> one, two = [[((0, 1, 0), 2)], [((0, 1, 0), 1)]], [[([0, 0, 1], 1), ((1, 0, 0), 1)], [((0, 1, 0), 1)]]
+>>> [all_houses(street, 0), drawn(street, one), is_plan(street, two), layout_price(street, one), layout_price(street, two), apart(street, one, two)]
+[[(0, 0, 1), (0, 1, 0), (1, 0, 0)], 3, True, 9, 4, 2]
 '''
 
 
+README = os.path.join(os.path.dirname(os.path.dirname(os.path.abspath(__file__))), "README.md")
+
+
 class TestExamples(unittest.TestCase):
-    def test_examples(self):
-        examples = doctest.DocTestParser().get_doctest(EXAMPLES, {}, "interface", None, None)
+    def check(self, text, many):
+        examples = doctest.DocTestParser().get_doctest(text, {}, "examples", None, None)
         told = []
         failed, tried = doctest.DocTestRunner(verbose=False).run(examples, out=told.append)
         self.assertEqual(failed, 0, "".join(told))
-        self.assertEqual(tried, 31)
+        self.assertEqual(tried, many)
+
+    def test_interface(self):
+        self.check(EXAMPLES, 47)
+
+    def test_readme(self):
+        with open(README, encoding="ascii") as file:
+            text = file.read()
+        self.check(text, text.count(">>> "))
 
 
 if __name__ == "__main__":
