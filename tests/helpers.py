@@ -6,8 +6,11 @@ import itertools
 import random
 import unittest
 
+from likestreets.better import better, is_best
 from likestreets.errors import TooMany
+from likestreets.exchanges import is_exchange, touched
 from likestreets.kinds import Kind
+from likestreets.saved import is_bettering
 from likestreets.streets import Street
 from likestreets.tables import Table
 
@@ -110,6 +113,31 @@ class Case(unittest.TestCase):
     def assertDefinedIn(self, module, *names):
         for name in names:
             self.assertEqual(getattr(module, name).__module__, module.__name__)
+
+    def assertExchange(self, value):
+        """The value is a list of tuples as exchanges are told, rows as tuples."""
+        self.assertIs(type(value), list)
+        for entry in value:
+            self.assertIs(type(entry), tuple)
+            kind, house, change, many = entry
+            self.assertTupleOfIntegers((kind, many))
+            self.assertTupleOfIntegers(house)
+            self.assertTupleOfIntegers(change)
+
+    def assertBetters(self, street, plan):
+        """The plan is not best, and few houses are told by which it is bettered; returns their exchange."""
+        found = better(street, plan)
+        self.assertExchange(found)
+        self.assertYes(is_exchange, street, plan, found)
+        self.assertYes(is_bettering, street, plan, found)
+        self.assertLessEqual(touched(street, plan, found), street.reach)
+        self.assertGives(found[:], better, street, plan)
+        self.assertNo(is_best, street, plan)
+        return found
+
+    def assertBest(self, street, plan):
+        self.assertYes(is_best, street, plan)
+        self.assertGives(None, better, street, plan)
 
 
 def snapshot(arguments):
@@ -292,3 +320,163 @@ def some_street(source, table, houses, width, size=9):
         layout.append(sorted([(house, chosen.count(house)) for house in set(chosen)]))
     street = Street(table, kinds, 0)
     return street.with_stock(plain_draw(street, layout)), layout
+
+
+SHOP = Kind(3, 1, [(0, 1)] * 3, [(0, []), (1, []), (5, [])])
+SHOPS = Street(SHELF, [SHOP], 3)
+APART = [[((0, 0, 1), 1), ((0, 1, 0), 1), ((1, 0, 0), 1)]]
+MOVE = (0, (0, 0, 1), (0, 1, -1), 1)
+BACK = (0, (1, 0, 0), (-1, 1, 0), 1)
+SWAP = [MOVE, BACK]
+NO_STREETS = NO_LISTS + [[], (), (SHELF, [SHOP], 3), Street, SHOP]
+NO_PLANS = NO_LISTS + [
+    [], (), [[]], [[((0, 1, 0), 2)]], [[((0, 1, 0), 4)]], [[((1, 0, 0), 3)]], [[((0, 1, 0), True)]], APART + [[]],
+    [[((0, 1, 0), 2), ((0, 1, 0), 1)]], [[((0, 1, 0), 3), ((1, 0, 0), 0)]], [[[(0, 1, 0), 3]]], [[((0, True, 0), 3)]],
+    [((0, 1, 0), 3)], [[((0, 3, -2), 1), ((0, 0, 1), 2)]], [None], [{}], [[None]], [[((0, 1), 3)]],
+]
+NO_EXCHANGES = NO_LISTS + [
+    SWAP[:1], SWAP[1:], SWAP + SWAP[:1], [MOVE, MOVE], [list(MOVE), BACK], [MOVE, list(BACK)], [MOVE[:3], BACK], [(), BACK],
+    [MOVE + (1,), BACK], [None], [MOVE, None], {MOVE: True, BACK: True}, MOVE, [[MOVE, BACK]], (SWAP,),
+    [(0, (0, 0, 1), (0, 0, 0), 1)], [MOVE, BACK, (0, (0, 1, 0), (0, 0, 0), 1)],
+    [(0, (0, 0, 1), (0, 1, -1), 2), (0, (1, 0, 0), (-1, 1, 0), 2)],
+    [(0, (0, 1, 0), (1, -1, 0), 1), (0, (0, 1, 0), (-1, 1, 0), 1)], [(0, (0, 1, 0), (1, -1, 0), 1), (0, (0, 1, 0), (0, -1, 1), 1)],
+    [(1, (0, 0, 1), (0, 1, -1), 1), BACK], [(-1, (0, 0, 1), (0, 1, -1), 1), (-1, (1, 0, 0), (-1, 1, 0), 1)],
+    [(0, (0, 0, 1), (0, 2, -2), 1), (0, (1, 0, 0), (-2, 2, 0), 1)], [(0, (0, 1, 0), (-1, 2, -1), 1)],
+    [(0, (0, 0, 1), (0, 1, -1), 0), BACK], [(0, (0, 0, 1), (0, 1, -1), 0)], [(0, (0, 0, 1), (0, 1, -1), -1)],
+    [(0, (0, 0, 1), (1, 1, -1), 1)], [(0, (0, 0, 1), (0, 1, -1), 1), (0, (1, 0, 0), (-1, 1, 0), True)],
+    [(False, (0, 0, 1), (0, 1, -1), 1), BACK], [(0, (0, 0, True), (0, 1, -1), 1), BACK], [(0, (0, 0, 1), (0, True, -1), 1), BACK],
+    [(0, (0, 0, 1), (0, 1, -1), GREAT), (0, (1, 0, 0), (-1, 1, 0), GREAT)],
+    [(0, (0, 0, 1, 0), (0, 1, -1, 0), 1), BACK], [(0, (0, 1), (1, -1), 1), BACK],
+    [(0, (2, 0, -1), (-1, 0, 1), 1), (0, (1, 0, 0), (-1, 0, 1), 1)],
+]
+
+
+def row_sum(row, other):
+    return tuple([a + b for a, b in zip(row, other)])
+
+
+def plain_is_exchange(street, plan, exchange):
+    """Whether tuples of the right kinds of values are an exchange, by the words of the document."""
+    names = [(kind, tuple(house), tuple(change)) for kind, house, change, _ in exchange]
+    if len(set(names)) < len(names):
+        return False
+    for kind, house, change, many in exchange:
+        if not 0 <= kind < len(street.kinds()) or many < 1 or not any(change):
+            return False
+        had = sum([number for other, number in plan[kind] if tuple(other) == tuple(house)])
+        taken = sum([entry[3] for entry in exchange if entry[0] == kind and tuple(entry[1]) == tuple(house)])
+        if had == 0 or taken > had or plain_worth(change, street.table.own) != 0:
+            return False
+        if row_sum(house, change) not in plain_houses(street.table, street.kinds()[kind]):
+            return False
+    return sum([many * plain_worth(change, street.table.common) for _, _, change, many in exchange]) == 0
+
+
+def plain_done(plan, exchange):
+    """The plan behind the exchange, told, house plan by house plan."""
+    behind = []
+    for kind, share in enumerate(plan):
+        counts = {tuple(house): many for house, many in share}
+        for at, house, change, many in exchange:
+            if at == kind:
+                counts[tuple(house)] -= many
+                counts[row_sum(house, change)] = counts.get(row_sum(house, change), 0) + many
+        behind.append(sorted([(house, many) for house, many in counts.items() if many]))
+    return behind
+
+
+def plain_moves(street, plan):
+    """For each kind and house plan of the plan all changes to other house plans, as moves of one house."""
+    found = []
+    for kind, share in enumerate(plan):
+        rows = plain_houses(street.table, street.kinds()[kind])
+        for house, _ in share:
+            for row in rows:
+                if row != tuple(house):
+                    found.append((kind, tuple(house), tuple([b - a for a, b in zip(house, row)]), 1))
+    return found
+
+
+def some_exchange(source, street, plan, plans):
+    """An exchange that leads to one of the plans, its houses paired as it comes."""
+    target = source.choice(plans)
+    counts = {}
+    for kind, (share, wanted) in enumerate(zip(plan, target)):
+        ahead, behind = houses_told(share), houses_told(wanted)
+        source.shuffle(behind)
+        for house, row in zip(ahead, behind):
+            if house != row:
+                key = (kind, house, tuple([b - a for a, b in zip(house, row)]))
+                counts[key] = counts.get(key, 0) + 1
+    return [key + (many,) for key, many in counts.items()]
+
+
+def small_streets(seed, many, limit=400):
+    """Small streets of one and two kinds of some tables, with all their plans."""
+    source = random.Random(seed)
+    while many:
+        columns = source.choice([1, 2, 3, 3])
+        entries = source.choice([1, 2, 3])
+        own = [source.randint(-entries, entries) for _ in range(columns)]
+        common = [source.randint(-2, 3) for _ in range(columns)]
+        houses = source.choice([[1], [2], [3], [4], [1, 1], [2, 1], [2, 2], [3, 0]])
+        try:
+            street, _ = some_street(source, Table(own, common), houses, source.choice([1, 2, 3]))
+        except TooMany:
+            continue
+        ways = 1
+        for kind in street.kinds():
+            ways *= len(plain_houses(street.table, kind)) ** kind.many
+        if ways <= limit * 6:
+            plans = plain_plans(street)
+            if 2 <= len(plans) <= limit:
+                many -= 1
+                yield street, plans
+
+
+def plain_least_prices(street):
+    """For each number that layouts of the street draw the least price of one, house by house."""
+    prices = {0: 0}
+    for kind in street.kinds():
+        rows = plain_houses(street.table, kind)
+        for _ in range(kind.many):
+            longer = {}
+            for number, price in prices.items():
+                for row in rows:
+                    drawn = number + plain_worth(row, street.table.common)
+                    total = price + plain_house_price(kind, row)
+                    longer[drawn] = min(total, longer.get(drawn, total))
+            prices = longer
+    return prices
+
+
+def plain_sums(table, most):
+    """All sums of at most so many fitting least changes, by taking one more again and again."""
+    least = plain_least(table.own)
+    found = {(0,) * table.columns}
+    for _ in range(most):
+        found |= {
+            row_sum(row, part) for row in found for part in least if all([a * b >= 0 for a, b in zip(row, part)])
+        }
+    return found - {(0,) * table.columns}
+
+
+def plain_banked(street):
+    """The banked street, by the words of the document."""
+    most = abs(street.stock)
+    kinds = []
+    for kind in street.kinds():
+        sizes = [abs(entry) * max(abs(low), abs(high)) for entry, (low, high) in zip(street.table.common, kind.bounds())]
+        most += kind.many * sum(sizes)
+        prices = [(0, [])] * (street.table.columns + 2)
+        kinds.append(Kind(kind.many, kind.rest, kind.bounds() + [(0, 0)] * 2, prices))
+    bounds = [(0, 0)] * street.table.columns + [(0, most)] * 2
+    kinds.append(Kind(1, 0, bounds, [(0, [])] * street.table.columns + [(1, [])] * 2))
+    wide = Table(street.table.own + (0, 0), street.table.common + (1, -1))
+    return Street(wide, kinds, street.stock)
+
+
+def plain_bank_plan(street, layout):
+    lacking = street.stock - plain_draw(street, layout)
+    house = (0,) * street.table.columns + (max(0, lacking), max(0, -lacking))
+    return [[(tuple(row) + (0, 0), many) for row, many in share] for share in layout] + [[(house, 1)]]

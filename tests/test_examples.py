@@ -75,6 +75,29 @@ True
 >>> one, two = [[((0, 1, 0), 2)], [((0, 1, 0), 1)]], [[([0, 0, 1], 1), ((1, 0, 0), 1)], [((0, 1, 0), 1)]]
 >>> [all_houses(street, 0), drawn(street, one), is_plan(street, two), layout_price(street, one), layout_price(street, two), apart(street, one, two)]
 [[(0, 0, 1), (0, 1, 0), (1, 0, 0)], 3, True, 9, 4, 2]
+>>> from likestreets.exchanges import done, is_exchange, touched, turned_back
+>>> street = Street(Table([1, 1, 1], [0, 1, 2]), [Kind(3, 1, [(0, 1)] * 3, [(0, []), (1, []), (5, [])])], 3)
+>>> plan, swap = [[((0, 0, 1), 1), ((0, 1, 0), 1), ((1, 0, 0), 1)]], [(0, (0, 0, 1), (0, 1, -1), 1), (0, (1, 0, 0), (-1, 1, 0), 1)]
+>>> (touched(street, plan, swap), done(street, plan, swap), is_exchange(street, plan, swap[:1]), turned_back(street, plan, swap)[0])
+(2, [[((0, 1, 0), 3)]], False, (0, (0, 1, 0), (0, -1, 1), 1))
+>>> from likestreets.saved import is_bettering, saving
+>>> (saving(street, plan, swap), is_bettering(street, plan, swap), is_bettering(street, plan, []))
+(3, True, False)
+>>> from likestreets.better import better, is_best
+>>> (is_best(street, plan), is_best(street, [[((0, 1, 0), 3)]]), is_bettering(street, plan, better(street, plan)))
+(False, True, True)
+>>> from likestreets.stuck import is_stuck, stuck_street
+>>> tight, first, last = stuck_street(Table([1, 1, 1], [0, 1, 2]))
+>>> (tight.houses, is_stuck(tight.table, (tight, first, last)), is_stuck(tight.table, (tight, last, first)), stuck_street(Table([1], [1])))
+(3, True, False, None)
+>>> from likestreets.scales import grown, most_grown, most_repeated, repeated
+>>> even = Street(Table((1, 1), (0, 1)), [Kind(4, 2, [(0, 2), (0, 2)], [(0, []), (0, [(1, 1)])])], 4)
+>>> ends, one = [[((0, 2), 2), ((2, 0), 2)]], [(0, (0, 2), (1, -1), 1), (0, (2, 0), (-1, 1), 1)]
+>>> [most_grown(even, ends, one), most_repeated(even, ends, one), grown(even, ends, one, 2), repeated(even, ends, one, 2)]
+[2, 2, [(0, (0, 2), (2, -2), 1), (0, (2, 0), (-2, 2), 1)], [(0, (0, 2), (1, -1), 2), (0, (2, 0), (-1, 1), 2)]]
+>>> from likestreets.led import best_plan, best_price, is_steps
+>>> [best_price(even, ends), best_plan(even, ends), is_steps(even, ends, [one, one]), is_steps(even, ends, [one])]
+[0, [[((1, 1), 4)]], True, False]
 '''
 
 
@@ -90,7 +113,7 @@ class TestExamples(unittest.TestCase):
         self.assertEqual(tried, many)
 
     def test_interface(self):
-        self.check(EXAMPLES, 47)
+        self.check(EXAMPLES, 64)
 
     def test_readme(self):
         with open(README, encoding="ascii") as file:
