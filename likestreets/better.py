@@ -11,7 +11,7 @@ def better(street, plan):
     """An exchange of few houses that betters the plan; None if the plan is best."""
     check_street(street)
     check_plan(street, plan)
-    exchange = bettered(street, counts_of(plan), sums_by_kind(street), 1)
+    exchange = bettered(street, counts_of(plan), sums_by_kind(street, street.reach), 1)
     if len(exchange) == 0:
         return None
     return exchange
@@ -22,9 +22,9 @@ def is_best(street, plan):
     return better(street, plan) is None
 
 
-def sums_by_kind(street):
-    """For each kind the sums that its houses have room for."""
-    parts_of = sums_of(street.table, street.reach)
+def sums_by_kind(street, most):
+    """For each kind the sums of at most so many parts that its houses have room for."""
+    parts_of = sums_of(street.table, most)
     return [sums_within(kind.bounds(), street.table, parts_of) for kind in street.kinds()]
 
 

@@ -68,6 +68,10 @@ def check_all(street, plan, exchange):
 def touched(street, plan, exchange):
     """How many houses the exchange touches."""
     check_all(street, plan, exchange)
+    return houses_in(exchange)
+
+
+def houses_in(exchange):
     return sum([many for kind, house, change, many in exchange])
 
 

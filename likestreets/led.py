@@ -42,7 +42,7 @@ def is_steps(street, plan, value):
     """Whether the value is steps of the plan."""
     check_street(street)
     check_plan(street, plan)
-    sums = sums_by_kind(street)
+    sums = sums_by_kind(street, street.reach)
     if not is_list(value):
         return False
     counts = counts_of(plan)
@@ -55,7 +55,7 @@ def is_steps(street, plan, value):
 
 def led(street, plan):
     """The counts of a best plan, and the exchanges that lead to it."""
-    sums = sums_by_kind(street)
+    sums = sums_by_kind(street, street.reach)
     counts = counts_of(plan)
     exchanges = []
     scale = greatest_scale(street)

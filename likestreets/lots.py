@@ -98,9 +98,14 @@ def lot_parts(table, lot):
     check_table(table)
     numbers = pulls(table)
     check_lot(numbers, lot)
-    left = dict(lot)
+    return parts_by(least_lots_of(numbers), dict(lot))
+
+
+def parts_by(lots, counts):
+    """Parts of the lot that is told by its counts, all least lots of its table being given."""
+    left = dict(counts)
     parts = []
-    for least in least_lots_of(numbers):
+    for least in lots:
         often = times_in(least, left)
         if often > 0:
             parts.append((least, often))

@@ -1,11 +1,13 @@
-"""Picks: which offers together take nothing from the stock, and save most.
+"""Picks: which offers together take nothing from the stock, or just one piece, and save most.
 
 A rate tells what a piece of the stock is worth: (number, of) for number / of. The gain of an offer
-is what it saves less what its pull is worth, times of. As all pulls come to 0, all gains together
-are the saving, times of; so what cannot come to a gain any more is left out.
+is what it saves less what its pull is worth, times of. As all pulls come to the same, the greatest
+gain of all together is the greatest saving; so what cannot come to a gain any more is left out.
 """
 
 from likestreets.offers import lean
+
+DEEPER = 8
 
 
 def best_pick(groups, most):
@@ -14,17 +16,65 @@ def best_pick(groups, most):
     Each group is a tuple (how often its houses can be taken, offers): each time one of the offers.
     """
     merged = with_free_ones_merged(groups, most)
-    offers = [offer for often, group in merged for offer in group]
+    offers = offers_in(merged)
+    rate = fair_rate(offers)
+    # To take nothing at all gains nothing.
+    return moves_of(greatest(merged, rate, hopes_of(offers, rate, most), 0, 0))
+
+
+def next_pick(groups, most):
+    """The moves of the offers that take one piece from the stock and cost least; [] if none take just one.
+
+    At most so many parts together; with no offers that take nothing may anything be saved.
+    """
+    merged = with_free_ones_merged(groups, most)
+    if not can_take_one(merged, most):
+        return []
+    offers = offers_in(merged)
     rate = fair_rate(offers)
     hopes = hopes_of(offers, rate, most)
+    # With a floor far below the greatest gain nearly nothing is left out: so it is lowered little by little.
+    depth = 1
+    moves = []
+    while len(moves) == 0:
+        moves = moves_of(greatest(merged, rate, hopes, -1, hopes[most] - depth))
+        depth = depth * DEEPER
+    return moves
+
+
+def can_take_one(groups, most):
+    """Whether offers of at most so many parts together can take just one piece from the stock."""
+    still = [(often, lean_pulls(offers)) for often, offers in groups]
+    return len(moves_of(greatest(still, (0, 1), [0] * (most + 1), -1, -1))) > 0
+
+
+def lean_pulls(offers):
+    """Of the offers of each pull but 0 one of the fewest parts, without what it saves."""
+    kept = {}
+    for parts, number, saved, move in sorted(offers, key=lambda entry: entry[0]):
+        if number != 0 and number not in kept:
+            kept[number] = (parts, number, 0, move)
+    return list(kept.values())
+
+
+def offers_in(groups):
+    return [offer for often, group in groups for offer in group]
+
+
+def greatest(groups, rate, hopes, start, floor):
+    """The greatest gain above the floor of offers whose pulls lead from the start to 0, and the moves for it.
+
+    It is told as a tuple (gain, moves), the moves None if there is no such gain.
+    """
+    most = len(hopes) - 1
     levels = [{} for parts in range(most + 1)]
-    levels[0][0] = (0, None)
-    found = (0, None)
-    for often, group in merged:
+    levels[0][start] = (0, None)
+    found = (floor, None)
+    for often, group in groups:
         for order in orders_of(often, most):
             take(levels, gains_of(group, rate, hopes, found[0]), hopes, order, found[0])
             found = best_of([found] + [level[0] for level in levels if 0 in level])
-    return moves_of(found)
+    return found
 
 
 def with_free_ones_merged(groups, most):

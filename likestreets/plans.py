@@ -2,7 +2,7 @@
 
 from likestreets.basics import is_count, is_list
 from likestreets.errors import InvalidHouse, InvalidLayout, InvalidPlan, TooMany
-from likestreets.prices import cost_at
+from likestreets.prices import cost_of_row
 from likestreets.rows import is_row, row_worth
 from likestreets.streets import check_kind, check_street
 
@@ -39,7 +39,7 @@ def house_price(street, kind, house):
 
 def house_cost(kind, house):
     """The sum of the prices of the Kind at the numbers of the house plan."""
-    return sum([cost_at(price, number) for price, number in zip(kind.prices(), house)])
+    return cost_of_row(kind.prices(), house)
 
 
 def all_houses(street, kind):
@@ -149,7 +149,12 @@ def apart(street, plan, target):
     check_street(street)
     check_plan(street, plan)
     check_plan(street, target)
+    return houses_apart(plan, target)
+
+
+def houses_apart(layout, other):
+    """How many houses must change at least to make the layout the other one."""
     total = 0
-    for had, wanted in zip(counts_of(plan), counts_of(target)):
+    for had, wanted in zip(counts_of(layout), counts_of(other)):
         total = total + sum([max(0, many - wanted.get(house, 0)) for house, many in had.items()])
     return total

@@ -44,6 +44,11 @@ def cost_at(price, number):
     return slope * number + sum([more * (number - place) for place, more in bends if place < number])
 
 
+def cost_of_row(prices, row):
+    """The sum of what the prices, known to be some, cost at the numbers of the row."""
+    return sum([cost_at(price, number) for price, number in zip(prices, row)])
+
+
 def price_at(price, number):
     """What the price costs at the number."""
     check_price(price)

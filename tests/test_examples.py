@@ -98,6 +98,26 @@ True
 >>> from likestreets.led import best_plan, best_price, is_steps
 >>> [best_price(even, ends), best_plan(even, ends), is_steps(even, ends, [one, one]), is_steps(even, ends, [one])]
 [0, [[((1, 1), 4)]], True, False]
+>>> from likestreets.towards import is_towards
+>>> [is_towards(even, ends, [[((1, 1), 4)]], [one, one]), is_towards(even, ends, [[((1, 1), 4)]], [repeated(even, ends, one, 2)])]
+[True, False]
+>>> from likestreets.houses import cheapest_house, has_house, house_least
+>>> street = Street(Table((1, 1), (0, 1)), [Kind(3, 2, [(0, 2), (0, 2)], [(0, []), (1, [])])], 4)
+>>> [has_house(street, 0), cheapest_house(street, 0), house_least(street, 0)]
+[True, (2, 0), 0]
+>>> from likestreets.bank import bank_plan, banked, is_short_paper, shortage, some_plan
+>>> [bank_plan(street, [[((2, 0), 3)]]), shortage(street), shortage(street.with_stock(9)), some_plan(street.with_stock(9))]
+[[[((2, 0, 0, 0), 3)], [((0, 0, 4, 0), 1)]], 0, 3, None]
+>>> [is_short_paper(street.with_stock(9), [[((0, 2, 0, 0), 3)], [((0, 0, 3, 0), 1)]]), is_short_paper(street, [[((2, 0, 0, 0), 3)], [((0, 0, 4, 0), 1)]]), banked(street).kinds()[1].bounds()]
+[True, False, [(0, 0), (0, 0), (0, 10), (0, 10)]]
+>>> from likestreets.nexts import is_next, next_plan
+>>> shop = Kind(3, 2, [(0, 2), (0, 2)], [(0, []), (0, [(0, 1), (1, 1)])])
+>>> row = Street(Table((1, 1), (0, 1)), [shop], 1)
+>>> [next_plan(row, [[((2, 0), 2), ((1, 1), 1)]]), is_next(row, [[((2, 0), 2), ((1, 1), 1)]], [[((0, 2), 1), ((2, 0), 2)]])]
+[[[((1, 1), 2), ((2, 0), 1)]], False]
+>>> from likestreets.worths import worth_of, worths
+>>> [worth_of(row), worths(row, 7), worths(Street(Table((0, 0), (1, 2)), [Kind(1, 0, [(0, 5), (0, 5)], [(1, []), (1, [])])], 0), 6)]
+[1, [1, 2, 3, 5, 7, 9, None], [0, 1, 1, 2, 2, 3]]
 '''
 
 
@@ -113,7 +133,7 @@ class TestExamples(unittest.TestCase):
         self.assertEqual(tried, many)
 
     def test_interface(self):
-        self.check(EXAMPLES, 64)
+        self.check(EXAMPLES, 78)
 
     def test_readme(self):
         with open(README, encoding="ascii") as file:
