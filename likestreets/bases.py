@@ -1,10 +1,8 @@
 """Bases of the changes of a table, and which lists of changes span all of them."""
 
-from itertools import combinations
-
 from likestreets.basics import is_list
 from likestreets.errors import InvalidBasis, InvalidRows
-from likestreets.lattices import determinant, divisor_of, echelon, taken
+from likestreets.lattices import determinant, divisor_of, echelon, places_among, taken
 from likestreets.rows import MOST_COLUMNS, is_row, row_less, row_times, row_worth
 from likestreets.tables import changes_of, check_change, check_changes, check_table
 
@@ -69,7 +67,7 @@ def sums_in(table, basis, change):
     if not is_basis(table, basis):
         raise InvalidBasis(basis)
     check_change(table, change)
-    for places in combinations(range(table.columns), len(basis)):
+    for places in places_among(table.columns, len(basis)):
         whole = determinant(taken(basis, places))
         if whole != 0:
             return [determinant(taken(rows, places)) // whole for rows in replaced(basis, change)]

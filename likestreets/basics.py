@@ -1,4 +1,4 @@
-"""What an INTEGER, a COUNT and a list are, asked of any value."""
+"""What an INTEGER, a COUNT and a list are, asked of any value; and values with new lists."""
 
 
 def is_integer(value):
@@ -14,3 +14,12 @@ def is_count(value):
 def is_list(value):
     """Whether the value is a list or a tuple, which stands for a list everywhere."""
     return isinstance(value, (list, tuple))
+
+
+def fresh(value):
+    """The value with new lists in it, also within its tuples."""
+    if isinstance(value, list):
+        return [fresh(part) for part in value]
+    if isinstance(value, tuple):
+        return tuple([fresh(part) for part in value])
+    return value

@@ -1,6 +1,5 @@
 """Whole sums of rows: determinants, divisors of minors, and echelon rows with the same whole sums."""
 
-from itertools import combinations
 from math import gcd
 
 from likestreets.rows import row_less, row_times
@@ -24,10 +23,20 @@ def taken(rows, places):
     return [[row[place] for place in places] for row in rows]
 
 
+def places_among(columns, many):
+    """All tuples of so many of the places, rising."""
+    found = [()]
+    for _ in range(many):
+        found = [
+            places + (place,) for places in found for place in range(columns) if len(places) == 0 or place > places[-1]
+        ]
+    return found
+
+
 def divisor_of(rows):
     """The greatest INTEGER that divides all minors of the rows, at least one; 0 if all are 0."""
     found = 0
-    for places in combinations(range(len(rows[0])), len(rows)):
+    for places in places_among(len(rows[0]), len(rows)):
         found = gcd(found, determinant(taken(rows, places)))
     return found
 

@@ -4,7 +4,7 @@ import doctest
 import os
 import unittest
 
-EXAMPLES = '''
+EXAMPLES = r'''
 >>> from likestreets.rows import fits, length_of, less, meet, plus, times, worth
 >>> [plus([1, -1], (0, 2)), less((1, -1), [0, 2]), times([1, -1], -3), worth([1, 2], [3, -1])]
 [(1, 1), (1, -3), (-3, 3), 1]
@@ -118,6 +118,32 @@ True
 >>> from likestreets.worths import worth_of, worths
 >>> [worth_of(row), worths(row, 7), worths(Street(Table((0, 0), (1, 2)), [Kind(1, 0, [(0, 5), (0, 5)], [(1, []), (1, [])])], 0), 6)]
 [1, [1, 2, 3, 5, 7, 9, None], [0, 1, 1, 2, 2, 3]]
+>>> from likestreets.sure import all_plans, count_plans, maybe_houses, sure_houses
+>>> [count_plans(row.with_stock(3)), all_plans(row.with_stock(2)), sure_houses(row.with_stock(2), 0), maybe_houses(row.with_stock(3), 0)]
+[2, [[[((0, 2), 1), ((2, 0), 2)]], [[((1, 1), 2), ((2, 0), 1)]]], [(1, 1), (2, 0)], [(1, 1)]]
+>>> from likestreets.texts import is_form, written
+>>> [written("row", [1, -2]), written("table", Table((1, 1), (0, 1))), written("lot", [(1, 2), (-2, 1)]), is_form("price", (1, [(0, 0)]))]
+['row 1 -2\n', 'table\nown 1 1\ncommon 0 1\n', 'lot\npull -2 1\npull 1 2\n', False]
+>>> from likestreets.readers import read
+>>> [read("price 3\nbend 0 2\n"), read("layout\nhouses\nhouse 2 1 0\nhouses\n"), read("exchange\nfrom 0 1 1 0\nby -1 1\n")]
+[('price', (3, [(0, 2)])), ('layout', [[((1, 0), 2)], []]), ('exchange', [(0, (1, 0), (-1, 1), 1)])]
+>>> from likestreets.claims import contrary, is_paper_of, is_true
+>>> boxes = Table((1, 1, 1), (0, 1, 2))
+>>> [is_true(("least", boxes, [1, -1, 0])), contrary(("enough", boxes, 3)) == ("toofew", boxes, 3), is_true(("enough", boxes, 2))]
+[True, True, False]
+>>> [is_paper_of(("parted", boxes, (2, -2, 0)), (1, -1, 0)), is_paper_of(("toofew", boxes, 2), [(1, -1, 0), (1, -1, 0), (-1, 0, 1)])]
+[True, True]
+>>> from likestreets.commands import is_command, is_deed
+>>> [is_command("table t 1,1,1 0,1,2"), is_command("table t 1,1 0"), is_command("kind k 3 5 0:9,0:4 1,0/5+2"), is_command("kind k 3 5 9:0 1")]
+[True, False, True, False]
+>>> [is_deed("exchange p 0:1,0:-1,1:2"), is_deed("reach t"), is_command("plan p s 1,0*2;0,1*1|-")]
+[True, False, True]
+>>> from likestreets.desk import Desk
+>>> desk = Desk()
+>>> desk.do_all("table t 1,1 0,1", "kind k 2 3 0:3,0:3 1,0", "kind n 1 3 0:3,0:3 0,2", "street s t 4 k,n", "plan p s 0,3*1;3,0*1|2,1*1", "claim b best p", "price p", "exchange p 0:3,0:-1,1:1 1:2,1:1,-1:1", "price p")
+['-', '-', '-', '-', '-', 'b false', '5', 'b true', '2']
+>>> [desk.do("reach t"), desk.do("pulls t"), desk.do("changes t"), desk.do("shown p"), desk.do("undo"), desk.do("stock s 30"), desk.do("shortage s")]
+['2', '-1 1', '-1,1 1,-1', 'plan 0,3*1;2,1*1|3,0*1', 'exchange p 0:3,0:-1,1:1 1:2,1:1,-1:1', '-', '21']
 '''
 
 
@@ -133,7 +159,7 @@ class TestExamples(unittest.TestCase):
         self.assertEqual(tried, many)
 
     def test_interface(self):
-        self.check(EXAMPLES, 78)
+        self.check(EXAMPLES, 95)
 
     def test_readme(self):
         with open(README, encoding="ascii") as file:
